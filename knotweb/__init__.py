@@ -1,0 +1,1 @@
+"""Knotweb: functions of yes and no as one web, its order changed amid use."""
