@@ -28,6 +28,7 @@ class Truths:
         self.whole = (1 << (1 << len(names))) - 1
         self.weight = weights_of(names)
         self.having = {name: self.rows_with(weight) for name, weight in self.weight.items()}
+        self.row_bits = None
 
     def rows_with(self, weight):
         """The truths of the NAME itself that has this weight."""
@@ -37,6 +38,32 @@ class Truths:
     def row_number(self, row):
         """The number of a ROW; NAMES that aren't there don't count."""
         return sum([self.weight[name] for name in row if name in self.weight])
+
+    def bits(self):
+        """All ROWS of the NAMES, in their order, each with its bit in truths."""
+        # Worked out where it's first asked for: most who need truths never do, some do again and again.
+        if self.row_bits is None:
+            rows = in_row_order(sorted(self.weight))
+            self.row_bits = [(row, 1 << self.row_number(row)) for row in rows]
+        return self.row_bits
+
+    def rows_at(self, truths):
+        """The ROWS at which truths are yes, in their order."""
+        return [row for row, bit in self.bits() if truths & bit]
+
+    def first_at(self, truths):
+        """The first ROW at which truths are yes, None without."""
+        for row, bit in self.bits():
+            if truths & bit:
+                return row
+        return None
+
+    def at_rows(self, rows):
+        """The truths of what is yes at just these ROWS, unlike ones."""
+        truths = 0
+        for row in rows:
+            truths |= 1 << self.row_number(row)
+        return truths
 
     def where_yes(self, name, truths):
         """At each ROW what truths come to where NAME is yes."""
@@ -48,9 +75,30 @@ class Truths:
         low = truths & (self.whole ^ self.having[name])
         return low | low << self.weight[name]
 
+    def hung_on(self, truths):
+        """The NAMES on which truths hang, as they stand here."""
+        return tuple([name for name in self.weight if self.where_yes(name, truths) != truths])
+
     def choice(self, truths, high, low):
         """High where truths are yes, else low."""
         return truths & high | (self.whole ^ truths) & low
+
+    def nearest(self, truths, there):
+        """At each ROW what truths come to at the nearest ROW that is there, as some are.
+
+        Nearest is the one that differs as late as can be, going down the NAMES.
+        """
+        # From the lowest NAME up, by blocks of ROWS that differ only in NAMES gone by: in such
+        # a block all that is lacking is there already, or the whole block lacks what is there.
+        for name in reversed(list(self.weight)):
+            weight = self.weight[name]
+            having = self.having[name]
+            lacking = self.whole ^ there
+            high = (truths << weight) & lacking & having
+            low = (truths >> weight) & lacking & (self.whole ^ having)
+            truths = truths & there | high | low
+            there = there | (there & having) >> weight | (there << weight) & having
+        return truths
 
     def truths_of(self, formula):
         """The truths of a FORMULA."""

@@ -23,6 +23,80 @@ FUNCTIONS = {
         "formula_text": "(formula)",
         "read_formula": "(text)",
     },
+    "knotweb.tables": {
+        "table_of": "(formula, order)",
+        "need_table": "(order, thing)",
+        "at_row": "(order, table, row)",
+        "formula_of": "(order, table)",
+        "knots_by": "(order, table)",
+    },
+    "knotweb.papers": {
+        "paper_of": "(formula, order)",
+        "need_paper": "(formula, order, thing)",
+        "is_apart": "(formula, other, row)",
+    },
+    "knotweb.webs": {
+        "Web": "(order, *, room=2000)",
+    },
+    "knotweb.families": {
+        "need_family": "(order, thing)",
+        "sheet_of": "(order, family)",
+        "need_sheet": "(order, thing)",
+        "family_of": "(order, sheet)",
+    },
+}
+
+METHODS = {
+    ("knotweb.webs", "Web"): {
+        "make": "(self, formula)",
+        "of_rows": "(self, rows)",
+        "contrary": "(self, h)",
+        "both": "(self, h, k)",
+        "either": "(self, h, k)",
+        "unlike": "(self, h, k)",
+        "choice": "(self, h, k, l)",
+        "some": "(self, h, names)",
+        "all_of": "(self, h, names)",
+        "put": "(self, h, name, k)",
+        "fixed": "(self, h, name, truth)",
+        "within": "(self, h, c)",
+        "again": "(self, h)",
+        "let_go": "(self, h)",
+        "collect": "(self)",
+        "kept": "(self)",
+        "many": "(self)",
+        "by_name": "(self)",
+        "order": "(self)",
+        "room": "(self)",
+        "handles": "(self)",
+        "table": "(self, h)",
+        "formula": "(self, h)",
+        "is_yes": "(self, h, row)",
+        "is_one": "(self, h, k)",
+        "implies": "(self, h, k)",
+        "apart_at": "(self, h, k)",
+        "hangs_on": "(self, h)",
+        "many_rows": "(self, h)",
+        "first_row": "(self, h)",
+        "rows": "(self, h, *, most=1024)",
+        "size": "(self, h)",
+        "swap": "(self, level)",
+        "move": "(self, name, place)",
+        "to_order": "(self, order)",
+        "sift": "(self, name)",
+        "sift_all": "(self)",
+        "add_name": "(self, name, *, place=None)",
+        "drop_name": "(self, name)",
+        "set_room": "(self, room)",
+        "deeds": "(self)",
+        "log": "(self)",
+        "busy": "(self)",
+        "copy": "(self)",
+        "__len__": "(self)",
+        "__eq__": "(self, other)",
+        "__str__": "(self)",
+        "__repr__": "(self)",
+    },
 }
 
 
@@ -34,6 +108,16 @@ class Interface(unittest.TestCase):
                     function = getattr(importlib.import_module(module), word)
                     self.assertEqual(function.__module__, module)
                     self.assertEqual(str(inspect.signature(function)), arguments)
+
+    def test_methods_stand_in_the_class_itself(self):
+        for (module, word), methods in METHODS.items():
+            its = vars(getattr(importlib.import_module(module), word))
+            for method, arguments in methods.items():
+                with self.subTest(word=word, method=method):
+                    self.assertEqual(str(inspect.signature(its[method])), arguments)
+
+    def test_values_of_tables(self):
+        self.assertEqual(importlib.import_module("knotweb.tables").MOST_KNOTS, 2000)
 
     def test_values_of_formulas(self):
         formulas = importlib.import_module("knotweb.formulas")
