@@ -117,3 +117,16 @@ def formula_from(edge, triples, made):
         whole = ("if", ("name", name), first, second)
         made[number] = whole
     return ("not", whole) if flip else whole
+
+
+def truths_from(edge, triples, at, made):
+    """The truths of an EDGE, as at works them out; made are those of KNOTS, as far as there are some."""
+    number, flip = edge
+    whole = at.whole if number < 0 else made.get(number)
+    if whole is None:
+        name, high, low = triples[number]
+        first = truths_from(high, triples, at, made)
+        second = truths_from(low, triples, at, made)
+        whole = at.choice(at.having[name], first, second)
+        made[number] = whole
+    return at.whole ^ whole if flip else whole

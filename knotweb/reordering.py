@@ -46,3 +46,18 @@ def without_top(functions, many):
     """Functions of so many NAMES and a topmost one, on which none hangs, without that one."""
     mask = (1 << (1 << many)) - 1
     return {handle: truths & mask for handle, truths in functions.items()}
+
+
+def onto(functions, order, other):
+    """Functions, a dict from anything to truths by an ORDER, by another one.
+
+    It may have NAMES more, and lack such on which no function hangs.
+    """
+    lost = [name for name in order if name not in other]
+    names = [name for name in order if name in other]
+    functions = without_top(by_order(functions, order, (*lost, *names)), len(names))
+    for name in other:
+        if name not in order:
+            functions = with_top(functions, len(names))
+            names = [name, *names]
+    return by_order(functions, names, other)

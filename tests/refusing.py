@@ -21,3 +21,7 @@ class Refusing(unittest.TestCase):
     def assert_no_such(self, thing, call, *handed, **named):
         """A call is refused with NoSuch of the very thing."""
         self.assertIs(self.refused(NoSuch, call, *handed, **named).name, thing)
+
+    def assert_lacks(self, which, call, *handed, **named):
+        """A call is refused with NoSuch of a like name."""
+        self.assertEqual(repr(self.refused(NoSuch, call, *handed, **named).name), repr(which))
