@@ -1,7 +1,7 @@
 """BINDINGS: NAMES that stand for functions of the NAMES of an ORDER, with ROOM for so many KNOTS."""
 
 from knotweb.errors import BadQuestion, HangsOn, NoSuch, TooGreat
-from knotweb.formulas import MOST_NAMES, names_in
+from knotweb.formulas import MOST_NAMES, name_in, parts_met
 from knotweb.knots import knots_of
 from knotweb.reordering import onto
 from knotweb.sifting import Sifting
@@ -9,20 +9,12 @@ from knotweb.truths import Truths
 
 
 class BoundTruths(Truths):
-    """Works out FORMULAS over the NAMES of an ORDER and such as are bound, each of which has truths of its own."""
+    """Works out FORMULAS over the NAMES of an ORDER, where a ("name", NAME) that is bound has truths of its own."""
 
     def __init__(self, order, bound):
         super().__init__(order)
         for name, truths in bound.items():
             self.having[name] = truths
-
-    def where_yes(self, name, truths):
-        """On a NAME that is bound nothing hangs: what has it hangs on what it stands for."""
-        return super().where_yes(name, truths) if name in self.weight else truths
-
-    def where_no(self, name, truths):
-        """As where it is yes."""
-        return super().where_no(name, truths) if name in self.weight else truths
 
 
 class Bindings:
@@ -85,14 +77,22 @@ class Bindings:
 
     # Questions.
 
-    def truths_of(self, formula):
-        """The truths of a FORMULA of NAMES that are bound or of the ORDER."""
-        met = names_in(formula)
-        for name in met:
-            if name not in self.functions and name not in self.names:
+    def bound_in(self, formula):
+        """The functions of the NAMES in a FORMULA that are bound, all others being of the ORDER."""
+        bound = {}
+        for part in parts_met(formula):
+            name = name_in(part)
+            if name is None or name in self.names:
+                continue
+            # Behind "some", "all" and "put" a function can't stand for a NAME.
+            if part[0] != "name" or name not in self.functions:
                 raise NoSuch(name)
-        bound = {name: self.functions[name] for name in met if name in self.functions}
-        return BoundTruths(self.names, bound).truths_of(formula)
+            bound[name] = self.functions[name]
+        return bound
+
+    def truths_of(self, formula):
+        """The truths of a FORMULA in which each ("name", NAME) may be bound."""
+        return BoundTruths(self.names, self.bound_in(formula)).truths_of(formula)
 
     def sifted(self):
         """A Sifting of all functions at each NAME once, which changes nothing here."""

@@ -103,16 +103,24 @@ def need_row(thing):
     return thing
 
 
-def names_in(formula):
-    """The NAMES of a FORMULA, each once, as they are met."""
-    names = {}
+def parts_met(formula):
+    """The parts of a FORMULA as they are met, each ahead of its own, a list."""
+    met = []
     waiting = [need_formula(formula)]
     while waiting:
         part = waiting.pop()
+        met.append(part)
+        waiting.extend(parts_of(part)[::-1])
+    return met
+
+
+def names_in(formula):
+    """The NAMES of a FORMULA, each once, as they are met."""
+    names = {}
+    for part in parts_met(formula):
         name = name_in(part)
         if name is not None:
             names[name] = True
-        waiting.extend(parts_of(part)[::-1])
     return list(names)
 
 

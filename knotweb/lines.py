@@ -6,9 +6,10 @@ from knotweb.formulas import is_name, need_order
 from knotweb.numerals import is_numeral
 from knotweb.tables import MOST_KNOTS
 
-# Questions that have nothing behind their word, and those that have just a FORMULA.
+# Questions that have nothing behind their word, those that have just a FORMULA, and those that may have two parts.
 BARE = ("undo", "knots", "names", "bound")
 ASKING = ("show", "count", "row", "least")
+PARTED = ("same", "share")
 
 ROOM_FIGURES = 4
 CHANCE_FIGURES = 3
@@ -44,7 +45,7 @@ def deed_from(part):
     """The deed that a part of a line tells, the FORMULA in it a text."""
     words = part.split(" ")
     word = words[0]
-    if word == "bind" and words[2:3] == ["="]:
+    if word == "bind" and len(words) > 3 and words[2] == "=":
         return (word, name_from(words, 1), " ".join(words[3:]))
     if word == "order":
         return (word, order_from(words[1:]))
@@ -85,24 +86,23 @@ def chances_from(text):
     return chances
 
 
-def text_behind(word, part):
-    """The text behind a part's first word and a blank; none where there is no more."""
-    return part[len(word) + 1:]
+def parted_question(word, parts):
+    """The question of a word that may have two parts, texts."""
+    if word == "share":
+        return (word, parts[0], chances_from(parts[1]) if len(parts) == 2 else {})
+    return (word, *parts) if len(parts) == 2 else None
 
 
 def question_from(line):
-    """The question that a line asks, the FORMULAS in it texts; None of one that begins with no such word."""
-    word = line.split(" ")[0]
-    parts = line.split(" , ")
+    """The question that a line asks, the FORMULAS in it texts; None of one that is none by its words."""
     if line in BARE:
         return (line,)
-    if word in ASKING:
-        return (word, text_behind(word, line))
-    if word == "same" and len(parts) == 2:
-        return (word, text_behind(word, parts[0]), parts[1])
-    if word == "share" and len(parts) <= 2:
-        chances = chances_from(parts[1]) if len(parts) == 2 else {}
-        return (word, text_behind(word, parts[0]), chances)
+    # A FORMULA without words still has a blank ahead: a word by itself has none.
+    word, blank, text = line.partition(" ")
+    if blank and word in ASKING:
+        return (word, text)
+    if blank and word in PARTED and line.count(" , ") <= 1:
+        return parted_question(word, text.split(" , "))
     return None
 
 

@@ -56,13 +56,13 @@ class Session:
         return self._bindings.knots.total
 
     def is_same(self, formula, other):
-        """Whether two FORMULAS of NAMES that are bound or of ORDER are yes at the same ROWS."""
+        """Whether two FORMULAS, where a ("name", NAME) may be bound, are yes at the same ROWS."""
         need_formula(formula)
         need_formula(other)
         return self._bindings.truths_of(formula) == self._bindings.truths_of(other)
 
     def table(self, formula):
-        """The TABLE by the ORDER of a FORMULA of NAMES that are bound or of ORDER."""
+        """The TABLE by the ORDER of a FORMULA, where a ("name", NAME) may be bound."""
         return Tabling(self._bindings.names, self._bindings.truths_of(formula)).table()
 
     def undo(self):

@@ -111,21 +111,22 @@ def count_parts(formula):
     return sum(1 for _ in met(formula))
 
 
-def random_formula(chance, names, depth):
-    """Some formula of names, within the bounds of [4] if depth is below 10."""
+def random_formula(chance, names, depth, moved=None):
+    """Some formula of names, within the bounds of [4] if depth is below 10; moved stand behind some, all, put."""
     while True:
-        formula = grown(chance, names, depth)
+        formula = grown(chance, names, depth, moved)
         if count_parts(formula) <= 60:
             return formula
 
 
-def grown(chance, names, depth):
+def grown(chance, names, depth, moved=None):
+    moved = names if moved is None else moved
     if depth == 0 or chance.random() < 0.1:
         leaf = chance.choice(["yes", "no"] + ["name"] * 10)
         return ("name", chance.choice(names)) if leaf == "name" else (leaf,)
-    word = chance.choice([word for word in SHAPES if "f" in SHAPES[word]])
+    word = chance.choice([word for word in SHAPES if "f" in SHAPES[word] and (moved or "n" not in SHAPES[word])])
     return (word, *[
-        chance.choice(names) if kind == "n" else grown(chance, names, depth - 1)
+        chance.choice(moved) if kind == "n" else grown(chance, names, depth - 1, moved)
         for kind in SHAPES[word]
     ])
 

@@ -3,7 +3,7 @@
 import re
 from fractions import Fraction
 
-from tests.plain import PlainReader, is_plain_name, plain_names, plain_refusal, plain_yes
+from tests.plain import PlainReader, is_plain_name, met, plain_refusal, plain_yes
 from tests.plainweb import (
     Refusal, hangs, many_knots, number_in, row_key, rows_by, sifted_whole, table, with_it,
 )
@@ -99,9 +99,11 @@ class PlainSession:
         return None
 
     def function_of(self, formula):
-        for one in plain_names(formula):
-            if one not in self.functions and one not in self.order:
-                raise Refusal("NoSuch", one)
+        for _, (word, *behind) in met(formula):
+            if word not in ("name", "some", "all", "put") or behind[0] in self.order:
+                continue
+            if word != "name" or behind[0] not in self.functions:
+                raise Refusal("NoSuch", behind[0])
         return frozenset(row for row in rows_by(self.order) if bound_yes(formula, row, self.order, self.functions))
 
     def question(self, why):
@@ -234,12 +236,12 @@ class PlainDesk:
         """A deed of a line as (word, what's behind it, text)."""
         for form, read in [
             (f"(name|free) ({NAME})", lambda it: (it[1], it[2], None)),
-            (f"bind ({NAME}) =(?: (.*))?", lambda it: ("bind", it[1], it[2] or "")),
+            (f"bind ({NAME}) = (.*)", lambda it: ("bind", it[1], it[2])),
             (f"order((?: {NAME})*)", lambda it: ("order", tuple(it[1].split()), None)),
             ("sift", lambda it: ("sift", None, None)),
             (f"room ({FIGURES})", lambda it: ("room", int(it[1]), None)),
         ]:
-            found = re.fullmatch(form, part)
+            found = re.fullmatch(form, part, re.DOTALL)
             if found:
                 word, its, text = read(found)
                 if word == "order" and not is_plain_order(its) or word == "room" and its > 2000:
@@ -248,10 +250,15 @@ class PlainDesk:
         raise NoAnswer("no line")
 
     def matched(self, form, line):
-        found = re.fullmatch(form, line)
+        found = re.fullmatch(form, line, re.DOTALL)
         if found is None:
             raise NoAnswer("no line")
         return found
+
+    def one_comma(self, line):
+        """Refuses a second " , "."""
+        if len(line.split(" , ")) > 2:
+            raise NoAnswer("no line")
 
     def names(self, names, empty="none"):
         return " ".join(names) or empty
@@ -262,7 +269,7 @@ class PlainDesk:
 
     def asked(self, line):
         """The function of the only formula of a line."""
-        return self.session.function_of(plain_formula(line.partition(" ")[2]))
+        return self.session.function_of(plain_formula(self.matched("[a-z]+ (.*)", line)[1]))
 
     def ask_undo(self, line):
         self.matched("undo", line)
@@ -291,23 +298,20 @@ class PlainDesk:
         return self.row(self.asked(line))
 
     def ask_same(self, line):
-        parts = line.split(" , ")
-        if len(parts) != 2:
-            raise NoAnswer("no line")
-        formulas = [plain_formula(parts[0].partition(" ")[2]), plain_formula(parts[1])]
+        self.one_comma(line)
+        formulas = [plain_formula(text) for text in self.matched("same (.*) , (.*)", line).groups()]
         first, second = [self.session.function_of(formula) for formula in formulas]
         return "no " + self.row(first ^ second) if first != second else "yes"
 
     def ask_share(self, line):
-        parts = line.split(" , ")
+        self.one_comma(line)
+        text, pairs = self.matched("share (.*?)(?: , (.*))?", line).groups()
         chances = {}
-        if len(parts) > 2:
-            raise NoAnswer("no line")
-        for one, up, down in self.pairs(parts[1]) if len(parts) == 2 else []:
+        for one, up, down in self.pairs(pairs) if pairs is not None else []:
             if one in chances or down == 0 or up > down or down > 999:
                 raise NoAnswer("no line")
             chances[one] = Fraction(up, down)
-        function = self.session.function_of(plain_formula(parts[0].partition(" ")[2]))
+        function = self.session.function_of(plain_formula(text))
         for one in chances:
             if one not in self.session.order:
                 raise Refusal("NoSuch", one)

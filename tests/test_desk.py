@@ -141,8 +141,17 @@ class Questions(Desks):
 
     def test_within_some_and_all_and_put(self):
         desk = self.desk("name a ; name b", "bind f = a & b")
-        self.assert_said(desk, ("same some a f , b", "yes"), ("same a := 1 in f , b", "yes"),
-            ("same some f f , f", "yes"))
+        self.assert_said(
+            desk, ("same some a f , b", "yes"), ("same a := 1 in f , b", "yes"), ("same b := f in b , f", "yes"),
+            ("show some f 1", "no such f"), ("count all f f", "no such f"), ("row f := 1 in a", "no such f"),
+            ("share a | (some f a)", "no such f"), ("share some f a , z 1/2", "no such f"),
+            ("least f | (all f b)", "no such f"),
+            ("same some f f , f", "no such f"), ("same f , some f f", "no such f"), ("same z , some f f", "no such z"),
+            ("bind g = f := a in f", "no such f"), ("bind f = some f f", "no such f"),
+            ("bind a = some f f", "there a"),
+            ("bind g = a ; bind h = some g 1", "no such g"), ("bound", "f"), ("free f ; name f", "done"),
+            ("show some f f", "order a b f ; edge yes"),
+        )
 
     def test_names_of_kept_words_can_be_told_but_not_in_formulas(self):
         desk = self.desk("name some ; name in ; name all")
@@ -200,7 +209,10 @@ class Refused(Desks):
             "undo ", "undo 1", " undo",
             "knots ", "knots a", "names ", "names a", "bound ", "bound f", "same", "same ", "same a", "same a, b",
             "same a ,b", "same a , b , a",
-            "share , ", "name b ; ", " ; name b", "name b ; undo", "name b ; knots", "name b ; show a",
+            "same , a", "same , ", "same ,", "same , a , b", "share , a , a 1/2", "share  , ", "share  , a",
+            "show", "count", "row", "share", "least", "bind g =", "bind g = ; sift", "name b ; bind g =",
+            "bind g = & ; bind h =", "show ; sift", "show\t",
+            "name b ; ", " ; name b", "name b ; undo", "name b ; knots", "name b ; show a",
             "show a ; name b", "same a , a ; sift",
             "sift ; ; sift", "sift;sift", "sift ;sift", "sift; sift", "undo ; undo", "name b ;  name c",
             "name b  ; name c", "shows a", "a",
@@ -213,14 +225,14 @@ class Refused(Desks):
     def test_no_formula(self):
         desk = self.desk("name a ; bind f = a")
         self.assert_said(
-            desk, ("show", "no formula 0"), ("show ", "no formula 0"), ("show   ", "no formula 0"),
-            ("count", "no formula 0"),
-            ("row ", "no formula 0"), ("least", "no formula 0"), ("share", "no formula 0"), ("share ", "no formula 0"),
-            ("bind g =", "no formula 0"),
-            ("bind g = ", "no formula 0"), ("bind g =   ", "no formula 0"), ("same , a", "no formula 0"),
-            ("same  , a", "no formula 0"),
+            desk, ("show ", "no formula 0"), ("show   ", "no formula 0"), ("count ", "no formula 0"),
+            ("row ", "no formula 0"), ("least ", "no formula 0"), ("share ", "no formula 0"),
+            ("bind g = ", "no formula 0"), ("bind g =   ", "no formula 0"), ("same  , a", "no formula 0"),
+            ("bind g =  ; sift", "no formula 0"), ("bind g = ;", "no formula 0"), ("sift ; bind g = ", "no formula 0"),
             ("same a , ", "no formula 0"), ("same a ,  ", "no formula 0"), ("same  , ", "no formula 0"),
-            ("share , a 1/2", "no formula 0"),
+            ("share  , a 1/2", "no formula 0"), ("share   , z 1/2", "no formula 0"),
+            # The blank behind the word is gone ahead of the sign: this one stands in F.
+            ("share , a 1/2", "no formula 0"), ("share , ", "no formula 0"),
             ("show a &", "no formula 2"), ("show a a", "no formula 1"), ("show (a", "no formula 2"),
             ("show a , a", "no formula 1"),
             ("show a; a", "no formula 1"), ("show A", "no formula 0"), ("bind g = a & & z", "no formula 2"),
@@ -299,6 +311,7 @@ class Drawn(Desks):
             lambda: f"count {formula()}", lambda: f"row {formula()}", lambda: f"share {formula()}",
             lambda: f"least {formula()}",
             lambda: f"share {formula()} , {chance.choice(self.CHANCES)}",
+            lambda: chance.choice(["show", "share", "same , a", "share , a 1/2", "bind f =", "name b ; bind g ="]),
             lambda: chance.choice(["what", "order a a", "room 2001", "same a", "name a b", " sift", "show a ; sift",
             "sift ; undo"]),
         ])()
@@ -306,7 +319,7 @@ class Drawn(Desks):
     def test_long_rows(self):
         chance = chances(131)
         kinds = {}
-        for _ in range(60):
+        for _ in range(90):
             desk, plain, never_asked = Desk(), PlainDesk(), Desk()
             asked_last = ["knots", "names", "bound", "show f", "show g", "show a", "count 1", "undo", "names", "bound"]
             begun = chance.choice([[], ["name a ; name b"], ["name c ; name a ; name b",

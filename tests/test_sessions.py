@@ -17,6 +17,15 @@ AB = ("a", "b")
 ABC = ("a", "b", "c")
 TEN = tuple("abcdefghij")
 GREAT = 10 ** 3999
+F, G = name("f"), name("g")
+# A FORMULA, and the NAME that isn't there: f and g are bound, a and b are of the ORDER.
+BOUND_ELSEWHERE = (
+    (("some", "f", YES), "f"), (("all", "g", A), "g"), (("put", "f", YES, A), "f"), (("some", "f", F), "f"),
+    (("all", "f", ("name", "z")), "f"), (("put", "g", ("some", "f", A), F), "g"), (("some", "a", ("all", "g", B)), "g"),
+    (("put", "a", ("put", "g", A, B), ("some", "f", A)), "g"), (("put", "a", G, ("some", "f", A)), "f"),
+    (("if", F, ("not", G), ("or", G, ("some", "g", F))), "g"), (("and", ("name", "z"), ("some", "f", A)), "z"),
+    (("and", ("some", "f", A), ("name", "z")), "f"), (("xor", F, ("all", "z", ("all", "f", A))), "z"),
+)
 KINDS = {"NoSuch": NoSuch, "BadQuestion": BadQuestion, "TooGreat": TooGreat, "HangsOn": HangsOn, "BadDeed": BadDeed}
 FIELDS = {"NoSuch": "name", "TooGreat": "knots", "HangsOn": "name", "BadDeed": "place"}
 
@@ -147,10 +156,7 @@ class Bind(Sessions):
         session = self.session(ABC, bind("f", "a & b"))
         for text, told in [
             ("some a f", "b"), ("all a f", "0"), ("a := c in f", "c & b"), ("a := f in f", "a & b"),
-            ("b := 1 in f | c", "a | c"),
-            # Nothing hangs on a name that is bound: what has it hangs on what it stands for.
-            ("some f f", "a & b"), ("all f (f | c)", "a & b | c"), ("f := 1 in f", "a & b"),
-            ("f := c in f | c", "a & b | c"),
+            ("b := 1 in f | c", "a | c"), ("some a some b f", "1"), ("all c (f | c)", "a & b"),
         ]:
             with self.subTest(text):
                 self.assertEqual(session.table(read_formula(text)), table_of(read_formula(told), ABC))
@@ -163,6 +169,35 @@ class Bind(Sessions):
         self.assert_lacks("g", session.do, deeds=(bind("g", "g"),))
         self.assert_lacks("z", session.do, deeds=(bind("g", "some z f"),))
         self.assertEqual(list(session.bound()), ["f"])
+
+    def test_a_bound_name_stands_behind_name_alone(self):
+        session = self.session(AB, bind("f", "a & b"), bind("g", "a"))
+        ahead = self.stand(session)
+        for formula, which in BOUND_ELSEWHERE:
+            with self.subTest(formula=formula):
+                for deed in (("bind", "h", formula), ("bind", "f", formula), ("bind", which, formula)):
+                    told = self.refused(NoSuch, session.do, deeds=(("sift",), deed))
+                    self.assertEqual(told.name, which)
+                    self.assertEqual(session.log()[-1][2], 1)
+                self.assert_lacks(which, session.table, formula)
+                self.assert_lacks(which, session.is_same, formula, name("z"))
+                self.assert_lacks(which, session.is_same, name("g"), formula)
+        self.assertEqual((self.stand(session), session.undone()), (ahead, 2))
+        # A NAME of ORDER goes ahead of what's wrong in the FORMULA, also where it's told there.
+        self.refused(BadQuestion, session.do, deeds=(("bind", "a", ("some", "f", A)),))
+
+    def test_behind_some_a_name_is_bound_or_free_by_the_deeds_ahead(self):
+        session = Session(AB)
+        some_f = ("some", "f", ("name", "f"))
+        self.assert_lacks("f", session.table, some_f)
+        told = self.refused(NoSuch, session.do, deeds=(bind("f", "a"), ("bind", "g", some_f)))
+        self.assertEqual((told.name, session.log()[-1], len(session)), ("f", ("refused", 1, 1), 0))
+        session.do(deeds=(bind("f", "a"), ("free", "f"), ("name", "f"), ("bind", "g", some_f)))
+        self.assertEqual(session.table(name("g")), table_of(YES, AB))
+        session.undo()
+        session.do(deeds=(bind("f", "a & b"), bind("g", "some a f"), bind("h", "all b (f | g ^ a ^ b)")))
+        self.assertEqual(session.table(name("g")), table_of(B, AB))
+        self.assertEqual(session.table(name("h")), table_of(A, AB))
 
     def test_sifted_where_there_is_no_room(self):
         session = self.session(("a", "c", "b", "d"), bind("f", "a & b | c & d"), room=5)
@@ -421,7 +456,10 @@ class Drawn(Sessions):
                                   ("order", ())])
         if word == "bind":
             names = order + bound
-            formula = random_formula(chance, names, chance.choice([1, 2, 3])) if names else chance.choice([YES, NO])
+            moved = names if chance.random() < wrong else order
+            formula = chance.choice([YES, NO])
+            if names:
+                formula = random_formula(chance, names, chance.choice([1, 2, 3]), moved)
             return ("bind", chance.choice(free + bound), formula)
         if word == "free":
             return ("free", chance.choice(bound or ["f"]))
@@ -528,24 +566,29 @@ class Drawn(Sessions):
 
     def test_questions_of_drawn_sessions(self):
         chance = chances(122)
+        lacking = {}
         for _ in range(60):
             order = tuple(chance.sample("abcd", 3))
             session, plain = Session(order), PlainSession(order)
             for which in "fgh":
-                formula = random_formula(chance, list(order) + list(plain.functions), 3)
+                formula = random_formula(chance, list(order) + list(plain.functions), 3, order)
                 self.assert_alike(session, plain, (("bind", which, formula),))
-            for _ in range(5):
+            for _ in range(8):
                 names = list(order) + ["f", "g", "h"] + (["z"] if chance.random() < 0.2 else [])
-                first, second = [random_formula(chance, names, chance.choice([1, 2, 3])) for _ in range(2)]
+                moved = names if chance.random() < 0.3 else order
+                first, second = [random_formula(chance, names, chance.choice([1, 2, 3]), moved) for _ in range(2)]
                 try:
                     expected = plain.table(first)
                     same = plain.table(second) == expected
                 except Refusal as refusal:
                     self.assertEqual(refusal.kind, "NoSuch")
-                    self.assert_lacks("z", session.is_same, first, second)
+                    self.assert_lacks(refusal.field, session.is_same, first, second)
+                    lacking[refusal.field] = lacking.get(refusal.field, 0) + 1
                     continue
                 self.assertEqual(session.table(first), expected)
                 self.assertIs(session.is_same(first, second), same)
+        for which in "fghz":
+            self.assertGreater(lacking.get(which, 0), 10, which)
 
 
 if __name__ == "__main__":
